@@ -1,0 +1,1 @@
+"""Points on a plane, and the lines through them."""
