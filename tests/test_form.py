@@ -1,4 +1,4 @@
-"""The form of the package's files, as far as a test can see it, and point 1: no clock, chance or files."""
+"""Some of the rules for the form of the package's files, and point 1: no clock, chance or files."""
 
 import ast
 import builtins
