@@ -32,6 +32,14 @@ EXPRESSIONS = (
     ast.IfExp, ast.Call, ast.Attribute, ast.Subscript, ast.Slice, ast.ListComp, ast.JoinedStr,
     ast.FormattedValue, ast.Lambda, ast.Set,
 )
+KEYWORDS = set("key reverse default start strict".split())
+WALKS = set("zip enumerate reversed range items keys values".split())
+WALKERS = set("list tuple dict sorted sum any all enumerate zip min max join".split())
+UNUSED = set(
+    "register mro elements open input version_info with_traceback add_note attrgetter breakpoint builtins compile"
+    " copyright credits delattr dir eval exec exit gc getattr globals hasattr help id importlib license locals"
+    " methodcaller os quit setattr super type vars sys format format_map".split()
+)
 
 
 def files():
@@ -42,10 +50,38 @@ def nodes(path, kind=ast.AST):
     return [node for node in ast.walk(ast.parse(path.read_text())) if isinstance(node, kind)]
 
 
+def called(node):
+    """The name that a call calls, or None where the node is no call."""
+    if not isinstance(node, ast.Call):
+        return None
+    return node.func.attr if isinstance(node.func, ast.Attribute) else getattr(node.func, "id", None)
+
+
+def with_outer(path):
+    """Each node beside its next outer one."""
+    return [(inner, outer) for outer in nodes(path) for inner in ast.iter_child_nodes(outer)]
+
+
+def top_names(path):
+    found = []
+    for node in ast.parse(path.read_text()).body:
+        if isinstance(node, (ast.FunctionDef, ast.ClassDef)):
+            found.append(node.name)
+        elif isinstance(node, ast.ImportFrom):
+            found.extend(alias.asname or alias.name for alias in node.names)
+        elif isinstance(node, ast.Assign):
+            found.extend(target.id for target in node.targets)
+    return found
+
+
+def drawn_from(path):
+    return [node.module.split(".")[1] for node in nodes(path, ast.ImportFrom)]
+
+
 class FormTests(unittest.TestCase):
     def test_files(self):
         names = [path.name for path in files()]
-        for name in ("__init__.py", "errors.py", "plane.py"):
+        for name in ("__init__.py", "errors.py", "plane.py", "lines.py", "notes.py"):
             self.assertIn(name, names)
         for name in names:
             self.assertRegex(name, r"\A(__init__|[a-z][a-z0-9_]*)\.py\Z")
@@ -107,6 +143,81 @@ class FormTests(unittest.TestCase):
                 self.assertLessEqual(len(node.bases), 1, node.name)
                 for row in node.body:
                     self.assertIsInstance(row, (ast.FunctionDef, ast.Pass), node.name)
+
+    def test_the_top_of_a_module(self):
+        for path in files():
+            body = ast.parse(path.read_text()).body
+            self.assertIsInstance(body[0].value.value, str, path.name)
+            for node in body[1:]:
+                self.assertIsInstance(node, (ast.ImportFrom, ast.FunctionDef, ast.ClassDef, ast.Assign), path.name)
+                if isinstance(node, ast.Assign):
+                    self.assertIsInstance(ast.literal_eval(node.value), (int, str, tuple), path.name)
+            names = top_names(path)
+            self.assertEqual(len(names), len(set(names)), path.name)
+
+    def test_imports_are_from_the_defining_file_and_in_no_ring(self):
+        paths = {path.stem: path for path in files()}
+        for path in files():
+            for node in nodes(path, ast.ImportFrom):
+                source = paths[node.module.split(".")[1]]
+                drawn = {alias.name for row in nodes(source, ast.ImportFrom) for alias in row.names}
+                own = set(top_names(source)) - drawn
+                for alias in node.names:
+                    self.assertIn(alias.name, own, path.name)
+        left = {name: drawn_from(path) for name, path in paths.items()}
+        while left:
+            free = [name for name, sources in left.items() if not set(sources) & set(left)]
+            self.assertNotEqual(free, [], "files that draw from one another")
+            left = {name: sources for name, sources in left.items() if name not in free}
+
+    def test_names_given_in_functions(self):
+        for path in files():
+            tops = set(top_names(path))
+            for node in nodes(path, (ast.Name, ast.arg)):
+                name = node.arg if isinstance(node, ast.arg) else node.id
+                self.assertNotIn(name, UNUSED, f"{path.name}:{node.lineno}")
+                self.assertRegex(name, r"\A[A-Za-z][A-Za-z0-9_]*\Z", f"{path.name}:{node.lineno}")
+            for function in nodes(path, ast.FunctionDef):
+                given = {node.arg for node in ast.walk(function) if isinstance(node, ast.arg)}
+                for node in ast.walk(function):
+                    if isinstance(node, ast.Name) and isinstance(node.ctx, ast.Store):
+                        given.add(node.id)
+                self.assertEqual(given & (tops | set(dir(builtins))), set(), f"{path.name}:{function.name}")
+
+    def test_assignments_loops_and_comprehensions(self):
+        for path in files():
+            for node in nodes(path, ast.Assign):
+                self.assertEqual(len(node.targets), 1, f"{path.name}:{node.lineno}")
+                self.assertIsInstance(node.targets[0], (ast.Name, ast.Subscript, ast.Attribute), path.name)
+            for node in nodes(path, (ast.For, ast.While)):
+                self.assertEqual(node.orelse, [], f"{path.name}:{node.lineno}")
+            for node in nodes(path, ast.ListComp):
+                self.assertEqual(len(node.generators), 1, f"{path.name}:{node.lineno}")
+                self.assertLessEqual(len(node.generators[0].ifs), 1, f"{path.name}:{node.lineno}")
+
+    def test_is_annotations_keywords_and_texts(self):
+        for path in files():
+            for node in nodes(path, ast.Compare):
+                if any(isinstance(sign, (ast.Is, ast.IsNot)) for sign in node.ops):
+                    self.assertIn(ast.unparse(node.comparators[0]), ("None", "True", "False"), path.name)
+            for node in nodes(path, ast.FunctionDef):
+                self.assertIsNone(node.returns, node.name)
+            for node in nodes(path, ast.arg):
+                self.assertIsNone(node.annotation, node.arg)
+            for node in nodes(path, ast.keyword):
+                self.assertIn(node.arg, KEYWORDS, path.name)
+            for node in nodes(path, ast.Constant):
+                self.assertNotIn("%", str(node.value), f"{path.name}:{node.lineno}")
+
+    def test_walks_and_sets_are_used_on_the_spot(self):
+        for path in files():
+            for inner, outer in with_outer(path):
+                if called(inner) in WALKS:
+                    walked = isinstance(outer, (ast.For, ast.comprehension)) and outer.iter is inner
+                    self.assertTrue(walked or called(outer) in WALKERS, f"{path.name}:{inner.lineno}")
+                if called(inner) == "set":
+                    asked = called(outer) in ("len", "sorted") or isinstance(outer, (ast.Compare, ast.BinOp))
+                    self.assertTrue(asked, f"{path.name}:{inner.lineno}")
 
 
 if __name__ == "__main__":
